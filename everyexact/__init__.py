@@ -1,0 +1,1 @@
+"""Everyexact: sums that come out exactly in every order."""

@@ -1,0 +1,44 @@
+"""The names, their places and their arguments, as the document's interface lists them."""
+
+import importlib
+import inspect
+import unittest
+
+FUNCTIONS = {
+    "scales": {
+        "scale_error": ["value"], "fits": ["scale", "number"], "broken": ["scale", "number"],
+        "fitting_many": ["scale", "low", "high"], "fitting_from": ["scale", "number"],
+    },
+}
+
+ERRORS = {
+    "ExactError": None, "Unfit": [], "BadText": [], "BadScale": ["error"], "BadBag": ["error"], "TooMany": ["limit"],
+    "NoName": ["given"], "Taken": ["given"], "BadBatch": [], "Rejected": ["index"], "TooManyEdits": [],
+    "NothingToUndo": [], "NothingToRedo": [], "NoVersion": ["given"], "BadLog": ["place"],
+}
+
+
+class InterfaceTest(unittest.TestCase):
+    def test_functions(self):
+        for file, functions in FUNCTIONS.items():
+            module = importlib.import_module("everyexact." + file)
+            for name, arguments in functions.items():
+                with self.subTest(name=name):
+                    function = getattr(module, name)
+                    self.assertTrue(inspect.isfunction(function))
+                    self.assertEqual(function.__module__, "everyexact." + file)
+                    self.assertEqual(list(inspect.signature(function).parameters), arguments)
+
+    def test_errors(self):
+        module = importlib.import_module("everyexact.errors")
+        for name, arguments in ERRORS.items():
+            with self.subTest(name=name):
+                error_class = getattr(module, name)
+                self.assertTrue(inspect.isclass(error_class))
+                self.assertEqual(error_class.__module__, "everyexact.errors")
+                if arguments:
+                    self.assertEqual(list(inspect.signature(error_class).parameters), arguments)
+
+
+if __name__ == "__main__":
+    unittest.main()
