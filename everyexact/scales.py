@@ -55,15 +55,15 @@ def fits_rule(rule, number):
 def stretches(scale):
     """Triples (low, high, step), ascending: of the integers from low to high those fit that are multiples of step.
 
-    high is None in the last one if it has no end. What is above 0 and lies in none of them does not fit.
+    high is None in the last one if it has no end, and low - 1 where there are none, between rules with one bound.
+    What is above 0 and lies in no stretch does not fit.
     """
     rows = []
     low = 0
     common = 1
     for bound, step in sorted(scale):
-        if bound >= low:
-            rows.append((low, bound, common))
-            low = bound + 1
+        rows.append((low, bound, common))
+        low = bound + 1
         if step == 0:
             return rows
         common = lcm(common, step)

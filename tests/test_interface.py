@@ -9,6 +9,16 @@ FUNCTIONS = {
         "scale_error": ["value"], "fits": ["scale", "number"], "broken": ["scale", "number"],
         "fitting_many": ["scale", "low", "high"], "fitting_from": ["scale", "number"],
     },
+    "floats": {"float_scale": ["base", "figures", "levels"]},
+    "scaletexts": {"scale_text": ["scale"], "read_scale": ["value"]},
+    "ladders": {
+        "ladder": ["scale"], "alike": ["one", "other"], "parting": ["one", "other"], "within": ["one", "other"],
+        "both": ["one", "other"],
+    },
+    "bags": {
+        "bag_error": ["value"], "choice_error": ["bag", "value"], "sum_of": ["bag", "choice"], "ends": ["bag"],
+        "looks": ["bag"],
+    },
 }
 
 ERRORS = {
