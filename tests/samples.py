@@ -7,13 +7,18 @@ import random
 from everyexact import errors
 
 GREAT = 10 ** 60
+MANY = 10 ** 30
 
 TENS = ((99, 10), (999, 100), (9999, 0))
 DENT = ((10, 4), (50, 0))
+PAY = (((-20, 0, 30), 2), ((0, 5), 3))
 
 # 10 ** 60 + 1 and 10 ** 60 - 1 as products of two integers with no common divisor.
 ABOVE = (10 ** 20 + 1, 10 ** 40 - 10 ** 20 + 1)
 BELOW = (10 ** 30 - 1, 10 ** 30 + 1)
+
+# An item of forty values, the greatest number and the least one among them.
+WIDE = (-GREAT,) + tuple(range(-18, 20)) + (GREAT,)
 
 
 def nested(deep, wrap):
@@ -96,3 +101,118 @@ def numbers_near(scale):
             found.update((bound // step * step, (bound // step + 1) * step, step * 10 ** 30))
     found |= {number + off for number in found for off in (-1, 1)}
     return sorted(found | {-number for number in found})
+
+
+def small_bags():
+    source = random.Random(17)
+    bags = [(), (((0,), 1),), (((0,), 3), ((0, 2), 1)), (((-3, 0), 2),), (((0, 4), 4),), (((-1, 0, 1), 3),), PAY]
+    for _ in range(60):
+        kinds = []
+        for _ in range(source.randrange(1, 4)):
+            values = {source.randrange(-9, 10) for _ in range(source.randrange(0, 4))} | {0}
+            kinds.append((tuple(sorted(values)), source.randrange(1, 3)))
+        bags.append(tuple(kinds))
+    return bags
+
+
+def great_bags():
+    """Bags of twelve kinds, with forty values or few, of both signs and of one, 10 ** 30 items each or few."""
+    few = (((0,), 1), ((-5, 0), 7), ((0, 5), MANY))
+    return [
+        ((WIDE, MANY),) * 12,
+        tuple((tuple(range(0, k + 1)), MANY - k) for k in range(28, 40)),
+        tuple((tuple(range(-k, 1)), k) for k in range(28, 40)),
+        (((0,), MANY),) * 12,
+        (((0, GREAT), MANY), ((-GREAT, 0), MANY), ((0, 1), 1)),
+        few * 4,
+    ]
+
+
+def taken(bag):
+    """All ways in which each item by itself takes one of its values: rows with a value for each item."""
+    items = [item for item, many in bag for _ in range(many)]
+    return list(itertools.product(*items))
+
+
+def told(bag, row):
+    """The choice in which the items take the values of this row."""
+    choice = []
+    at = 0
+    for item, many in bag:
+        mine = row[at:at + many]
+        choice.append(tuple(mine.count(value) for value in item))
+        at += many
+    return tuple(choice)
+
+
+def all_sums(bag):
+    """The sums of all choices, item by item."""
+    sums = {0}
+    for item, many in bag:
+        for _ in range(many):
+            sums = {total + value for total in sums for value in item}
+    return sums
+
+
+def plainly_exact(scale, bag):
+    return all(plainly_fits(scale, total) for total in all_sums(bag))
+
+
+def bags_to_five():
+    """Small bags of no kind to five, of one sign and of both, with kinds of 0 alone, often of common multiples."""
+    source = random.Random(31)
+    bags = small_bags()
+    for many, sign, unit in itertools.product(range(1, 6), (1, -1, 0), (1, 2, 3, 4, 6)):
+        kinds = []
+        for _ in range(many):
+            low, high = (0, 5) if sign == 1 else (-5, 0) if sign == -1 else (-3, 3)
+            values = {source.randrange(low, high + 1) * unit for _ in range(source.randrange(0, 4))} | {0}
+            kinds.append((tuple(sorted(values)), source.randrange(1, 4)))
+        bags.append(tuple(kinds))
+        # One kind off the multiples of the others.
+        bags.append(tuple(kinds[:-1]) + (((-1, 0, 1) if sign == 0 else (0, 1) if sign == 1 else (-1, 0), 1),))
+    return bags
+
+
+def near_scales(sums):
+    """Scales whose bounds are the greatest sums that a step does not divide, one less and one more; and others."""
+    scales = [()]
+    for step in (2, 3, 4, 5, 6, 8, 12):
+        apart = max([abs(total) for total in sums if total % step != 0], default=0)
+        for bound in (apart - 1, apart, apart + 1):
+            if bound >= 0:
+                scales += [((bound, step),), ((bound, step), (bound, 1 + step)), ((bound + 1, 2 * step), (bound, step))]
+    top = max(abs(total) for total in sums)
+    for bound in (top - 1, top, top + 1):
+        if bound >= 0:
+            scales += [((bound, 0),), ((0, 2), (bound, 0)), ((bound, 0), (bound, 3), (bound, 0)), ((3, 2), (bound, 0), (5, 4))]
+    return scales
+
+
+def turned_bag(bag):
+    """bag with all values turned in sign."""
+    return tuple((tuple(-value for value in item[::-1]), many) for item, many in bag)
+
+
+def all_trees(places):
+    """All trees of these places, unlike as tuples."""
+    if len(places) == 1:
+        return list(places)
+    found = []
+    for many in range(1, len(places)):
+        for lot in itertools.combinations(places, many):
+            rest = tuple(place for place in places if place not in lot)
+            found += itertools.product(all_trees(lot), all_trees(rest))
+    return found
+
+
+def lots_of(many):
+    """All lots of so many places, as ascending tuples."""
+    return [lot for size in range(many + 1) for lot in itertools.combinations(range(many), size)]
+
+
+def plainly_exact_numbers(scale, numbers):
+    sums = {0}
+    for number in numbers:
+        sums |= {total + number for total in sums}
+    return all(plainly_fits(scale, total) for total in sums)

@@ -1,10 +1,9 @@
 import itertools
-import random
 import unittest
 
 from everyexact.bags import bag_error, choice_error, ends, looks, sum_of
 from tests.calling import CallCase, ExampleCase
-from tests.samples import GREAT, any_values
+from tests.samples import GREAT, MANY, PAY, WIDE, any_values, great_bags, small_bags, taken, told
 
 EXAMPLES_C2 = """
     >>> from everyexact.bags import bag_error, choice_error, ends, looks, sum_of
@@ -24,54 +23,6 @@ EXAMPLES_C3 = """
     >>> looks(odd), looks(coins), looks(()), looks((((0, 7), 10 ** 30),)) == (0, 7, 7 * 10 ** 30 - 7, 7 * 10 ** 30)
     ((0, 5, 50, 60, 105, 110), (0, 20, 100, 120), (0,), True)
 """
-
-PAY = (((-20, 0, 30), 2), ((0, 5), 3))
-MANY = 10 ** 30
-
-# An item of forty values, the greatest number and the least one among them.
-WIDE = (-GREAT,) + tuple(range(-18, 20)) + (GREAT,)
-
-
-def small_bags():
-    source = random.Random(17)
-    bags = [(), (((0,), 1),), (((0,), 3), ((0, 2), 1)), (((-3, 0), 2),), (((0, 4), 4),), (((-1, 0, 1), 3),), PAY]
-    for _ in range(60):
-        kinds = []
-        for _ in range(source.randrange(1, 4)):
-            values = {source.randrange(-9, 10) for _ in range(source.randrange(0, 4))} | {0}
-            kinds.append((tuple(sorted(values)), source.randrange(1, 3)))
-        bags.append(tuple(kinds))
-    return bags
-
-
-def great_bags():
-    """Bags of twelve kinds, with forty values or few, of both signs and of one, 10 ** 30 items each or few."""
-    few = (((0,), 1), ((-5, 0), 7), ((0, 5), MANY))
-    return [
-        ((WIDE, MANY),) * 12,
-        tuple((tuple(range(0, k + 1)), MANY - k) for k in range(28, 40)),
-        tuple((tuple(range(-k, 1)), k) for k in range(28, 40)),
-        (((0,), MANY),) * 12,
-        (((0, GREAT), MANY), ((-GREAT, 0), MANY), ((0, 1), 1)),
-        few * 4,
-    ]
-
-
-def taken(bag):
-    """All ways in which each item by itself takes one of its values: rows with a value for each item."""
-    items = [item for item, many in bag for _ in range(many)]
-    return list(itertools.product(*items))
-
-
-def told(bag, row):
-    """The choice in which the items take the values of this row."""
-    choice = []
-    at = 0
-    for item, many in bag:
-        mine = row[at:at + many]
-        choice.append(tuple(mine.count(value) for value in item))
-        at += many
-    return tuple(choice)
 
 
 class ExamplesTest(ExampleCase):

@@ -19,6 +19,12 @@ FUNCTIONS = {
         "bag_error": ["value"], "choice_error": ["bag", "value"], "sum_of": ["bag", "choice"], "ends": ["bag"],
         "looks": ["bag"],
     },
+    "exactness": {"exact": ["scale", "bag"], "loose": ["scale", "bag"], "is_loose": ["scale", "bag", "value"]},
+    "addends": {"numbers_error": ["value"], "bag_of": ["numbers"], "exact_numbers": ["scale", "numbers"]},
+    "trees": {
+        "tree_error": ["many", "value"], "tree_sums": ["numbers", "tree"], "is_clean": ["scale", "numbers", "tree"],
+        "unclean": ["scale", "numbers"],
+    },
 }
 
 ERRORS = {
