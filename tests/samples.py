@@ -216,3 +216,13 @@ def plainly_exact_numbers(scale, numbers):
     for number in numbers:
         sums |= {total + number for total in sums}
     return all(plainly_fits(scale, total) for total in sums)
+
+
+def few_numbers(most):
+    """Rows of none to so many numbers, of one sign and of both, with noughts, equal ones and common multiples."""
+    source = random.Random(107)
+    rows = [(), (0,), (3,), (-3,), (0, 0), (4, 4), (4, -4), (60, 45, 55), (63, 37, 52, 48), (95, 95, 95), (50, 50, 5, 5)]
+    for many, (low, high), unit in itertools.product(range(2, most + 1), ((-6, 6), (0, 9), (-9, 0)), (1, 3, 5)):
+        for off in (0, 1):
+            rows.append(tuple(unit * source.randrange(low, high + 1) for _ in range(many - 1)) + (off + unit * source.choice((low, high)),))
+    return [row for row in rows if len(row) <= most]

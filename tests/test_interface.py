@@ -25,6 +25,21 @@ FUNCTIONS = {
         "tree_error": ["many", "value"], "tree_sums": ["numbers", "tree"], "is_clean": ["scale", "numbers", "tree"],
         "unclean": ["scale", "numbers"],
     },
+    "orders": {
+        "clean_order": ["scale", "numbers"], "order_many": ["scale", "numbers"], "clean_tree": ["scale", "numbers"],
+        "longest_start": ["scale", "numbers"],
+    },
+    "room": {
+        "may_come": ["scale", "bag", "number"], "copies": ["scale", "bag", "number"],
+        "next_to_come": ["scale", "bag", "low", "high"], "room": ["scale", "bag", "low", "high"],
+    },
+    "lots": {
+        "greatest_lots": ["scale", "numbers"], "fewest_lots": ["scale", "numbers"], "few": ["scale", "numbers"],
+    },
+    "programs": {
+        "program_error": ["value"], "inputs_error": ["program", "value"], "run": ["program", "inputs"],
+        "forms": ["program"], "hulls": ["program"],
+    },
 }
 
 ERRORS = {
