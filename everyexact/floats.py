@@ -1,6 +1,7 @@
 """Scales of floats: integers of so many figures, with noughts behind them."""
 
 from everyexact.errors import Unfit
+from everyexact.powers import power
 from everyexact.scales import scale_error
 
 
@@ -18,11 +19,3 @@ def float_scale(base, figures, levels):
     if scale_error(scale) is not None:
         raise Unfit()
     return scale
-
-
-def power(base, exponent):
-    """base ** exponent."""
-    result = 1
-    for _ in range(exponent):
-        result = result * base
-    return result

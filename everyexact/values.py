@@ -12,6 +12,11 @@ def is_number(value):
     return is_integer(value) and abs(value) <= MAX_NUMBER
 
 
+def is_place(rows, value):
+    """Whether value is the place of one of rows."""
+    return is_integer(value) and 0 <= value < len(rows)
+
+
 def is_row(value, many):
     """Whether value is a tuple of so many items."""
     return isinstance(value, tuple) and len(value) == many

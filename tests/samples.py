@@ -226,3 +226,23 @@ def few_numbers(most):
         for off in (0, 1):
             rows.append(tuple(unit * source.randrange(low, high + 1) for _ in range(many - 1)) + (off + unit * source.choice((low, high)),))
     return [row for row in rows if len(row) <= most]
+
+
+def to_forty(scale, top):
+    """Scales of forty rules that let the same as this one, to top: in its order, turned about, and with rules amid."""
+    more = tuple((top + k, (2, 0, 3, 4)[k % 4]) for k in range(40 - len(scale)))
+    middle = len(more) // 2
+    return [scale + more, more + scale[::-1], more[:middle] + scale + more[middle:]]
+
+
+def scales_for_sums(sums, source, many):
+    """So many of near_scales, a forty-rule scale of each, and scales that ask for multiples of what the sums have in common."""
+    top = max([abs(total) for total in sums])
+    common = math.gcd(*sums)
+    picked = source.sample(near_scales(sums), many)
+    for step in (common, 2 * common):
+        if step > 1:
+            bounds = sorted({abs(total) for total in sums if total % step != 0} | {top})
+            for bound in (0, source.choice(bounds), bounds[-1]):
+                picked += [((bound, step),), ((top, 0), (bound, step)), ((bound, step), (max(0, top - 1), 0), (top, 3))]
+    return picked + [source.choice(to_forty(scale, top)) for scale in picked if len(scale) > 0]

@@ -40,6 +40,18 @@ FUNCTIONS = {
         "program_error": ["value"], "inputs_error": ["program", "value"], "run": ["program", "inputs"],
         "forms": ["program"], "hulls": ["program"],
     },
+    "checks": {
+        "first_unfit": ["scale", "program"], "unfit_inputs": ["scale", "program"],
+        "unfit_holds": ["scale", "program", "value"],
+    },
+    "regroup": {
+        "spans_error": ["value"], "terms_error": ["spans", "value"], "regroupable": ["scale", "spans", "terms"],
+        "bad_regroup": ["scale", "spans", "terms"], "bad_regroup_holds": ["scale", "spans", "terms", "value"],
+    },
+    "products": {
+        "keepable": ["base", "figures", "number"], "products_exact": ["base", "figures", "numbers"],
+        "shares": ["base", "numbers"], "bad_lot": ["base", "figures", "numbers"],
+    },
 }
 
 ERRORS = {
