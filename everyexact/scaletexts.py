@@ -1,6 +1,6 @@
 """The texts of scales: "99/10 999/100 9999/0"."""
 
-from everyexact.bounds import MAX_NUMBER
+from everyexact.decimals import is_decimal
 from everyexact.errors import BadText
 from everyexact.scales import scale_error
 
@@ -28,11 +28,3 @@ def read_rule(text):
     if not is_decimal(bound) or not is_decimal(step):
         raise BadText()
     return (int(bound), int(step))
-
-
-def is_decimal(text):
-    """Whether text is that of an integer from 0 on, with no more figures than those in a rule have."""
-    # Python reads other figures than 0 to 9, too, and raises an error of its own at thousands of them.
-    if not text.isascii() or not text.isdigit() or len(text) > len(str(MAX_NUMBER)):
-        return False
-    return text == "0" or text[0] != "0"

@@ -52,6 +52,21 @@ FUNCTIONS = {
         "keepable": ["base", "figures", "number"], "products_exact": ["base", "figures", "numbers"],
         "shares": ["base", "numbers"], "bad_lot": ["base", "figures", "numbers"],
     },
+    "widths": {
+        "figures_of": ["base", "number"], "least_figures": ["base", "bag"], "mark": ["base", "numbers"],
+        "greatest_many": ["scale", "item"], "cut": ["base", "places", "number"], "least_cut": ["scale", "base", "numbers"],
+    },
+    "logs": {"log_text": ["edits"], "read_log": ["value"], "bench_behind": ["edits"]},
+}
+
+# Each method is defined in the class itself.
+CLASSES = {
+    "benches": ("Bench", {
+        "keep": ["name", "sort", "value"], "drop": ["name"], "rule_put": ["name", "rule"], "rule_taken": ["name"],
+        "kind_put": ["name", "item", "many"], "kind_taken": ["name"], "batch": ["edits"], "exact_of": ["name", "other"],
+        "ladder_of": ["name"], "undo": [], "redo": [], "at": ["version"], "copy": [], "attempt": ["work"],
+    }),
+    "shells": ("Shell", {"say": ["line"]}),
 }
 
 ERRORS = {
@@ -71,6 +86,23 @@ class InterfaceTest(unittest.TestCase):
                     self.assertTrue(inspect.isfunction(function))
                     self.assertEqual(function.__module__, "everyexact." + file)
                     self.assertEqual(list(inspect.signature(function).parameters), arguments)
+
+    def test_classes(self):
+        for file, (name, methods) in CLASSES.items():
+            module = importlib.import_module("everyexact." + file)
+            own = getattr(module, name)
+            self.assertTrue(inspect.isclass(own))
+            self.assertEqual(own.__module__, "everyexact." + file)
+            self.assertEqual(list(inspect.signature(own).parameters), [])
+            for method, arguments in methods.items():
+                with self.subTest(name=method):
+                    self.assertTrue(inspect.isfunction(vars(own)[method]))
+                    self.assertEqual(list(inspect.signature(vars(own)[method]).parameters)[1:], arguments)
+
+    def test_a_bench_has_its_own_signs(self):
+        own = vars(importlib.import_module("everyexact.benches").Bench)
+        for name in ("__len__", "__contains__", "__getitem__", "__iter__", "__eq__", "__ne__", "shelf", "version", "log", "made"):
+            self.assertIn(name, own)
 
     def test_errors(self):
         module = importlib.import_module("everyexact.errors")
