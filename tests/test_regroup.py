@@ -286,6 +286,47 @@ class SmallTest(RegroupCase):
             self.check_calls(((90, 3), (94, 0)), ((low, high, 5),), ((0, 1),), False)
 
 
+class ValueByValueTest(RegroupCase):
+    """What [I4] asks of each value that a span holds, for spans of so many values that not all of them together are gone through."""
+
+    def looks(self, spans, terms):
+        """The sums that [I4] tells from above."""
+        def above(which, value):
+            return sum(max(0, factor * value) for other, factor in terms if other == which)
+
+        most = [max(above(which, value) for value in held(*span)) for which, span in enumerate(spans)]
+        found = set()
+        for which, span in enumerate(spans):
+            for value in held(*span):
+                total = sum(most) - most[which] + above(which, value)
+                found |= {total} | {total - abs(value * factor) for other, factor in terms if other == which}
+        return found
+
+    def random_case(self, source):
+        spans = []
+        for _ in range(source.randrange(1, 4)):
+            stride, steps = source.choice((1, 2, 3, 4, 6, 10)), source.choice((0, 1, 2, 3, 5, 9, 20))
+            low = source.choice((source.randrange(-30, 31), -stride * source.randrange(steps + 1), -source.randrange(stride * steps + 1)))
+            spans.append((low, low + stride * steps, stride))
+        terms = [(source.randrange(len(spans)), source.choice((-1, 1)) * source.randrange(1, 8)) for _ in range(source.randrange(8))]
+        return tuple(spans), tuple(terms)
+
+    def test_random_spans(self):
+        source = random.Random(313)
+        told = [0, 0]
+        for _ in range(1500):
+            spans, terms = self.random_case(source)
+            sums = self.looks(spans, terms) | self.looks(spans, tuple((which, -factor) for which, factor in terms)) | {0}
+            for _ in range(4):
+                # A sum that is no multiple just fits, or just does not.
+                bounds = [max(0, abs(source.choice(sorted(sums))) + source.choice((-1, 0, 0, 1))) for _ in range(source.randrange(1, 3))]
+                scale = tuple((bound, source.choice((0, 2, 3, 4, 5, 6, 7, 9, 10))) for bound in bounds)
+                expected = all(plainly_fits(scale, total) for total in sums)
+                self.check_told(scale, spans, terms, expected)
+                told[expected] += 1
+        self.assertGreater(min(told), 500)
+
+
 class GreatTest(RegroupCase):
     """Twelve spans and 24 terms, with more values than can be gone through."""
 
